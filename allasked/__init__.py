@@ -1,0 +1,1 @@
+"""Allasked: wishes about a few ties, asked tie by tie."""

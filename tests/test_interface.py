@@ -1,0 +1,52 @@
+"""The names of the interface, each defined in its own file."""
+
+import ast
+import pathlib
+import unittest
+
+PACKAGE = pathlib.Path(__file__).resolve().parent.parent / "allasked"
+
+CLASSES = {
+    "errors": ["AskError", "NoFrame", "NoWeb", "NoGrowth", "NoTurn", "NoTie", "NoTruth", "NoBack", "NoText", "NoRow"],
+}
+
+FUNCTIONS = {
+    "frames": {
+        "is_frame": ["thing"],
+        "frame_of": ["many", "ties"],
+        "is_web": ["frame", "thing"],
+        "web_of": ["frame", "ties"],
+        "webs": ["frame"],
+        "number_of": ["frame", "web"],
+        "missing": ["frame", "web"],
+    },
+    "shapes": {
+        "pieces": ["frame", "web"],
+        "ring_of": ["frame", "web"],
+        "sides_of": ["frame", "web"],
+    },
+}
+
+
+def defined(module, kind):
+    tree = ast.parse((PACKAGE / (module + ".py")).read_text())
+    return {node.name: node for node in tree.body if isinstance(node, kind)}
+
+
+class Interface(unittest.TestCase):
+    def test_classes(self):
+        for module, names in CLASSES.items():
+            found = defined(module, ast.ClassDef)
+            for name in names:
+                self.assertIn(name, found, module)
+
+    def test_functions(self):
+        for module, functions in FUNCTIONS.items():
+            found = defined(module, ast.FunctionDef)
+            for name, arguments in functions.items():
+                self.assertIn(name, found, module)
+                self.assertEqual([arg.arg for arg in found[name].args.args], arguments, name)
+
+
+if __name__ == "__main__":
+    unittest.main()
