@@ -30,7 +30,8 @@ def pieces(frame, web):
     found = []
     for place in range(frame[0]):
         if not any(place in piece for piece in found):
-            found.append(sorted(ways_from(web, place).keys()))
+            ways = ways_from(web, place)
+            found.append(sorted(ways.keys()))
     return found
 
 

@@ -69,6 +69,7 @@ def doubled(start, steps=30, make=lambda thing: (thing, thing)):
 
 
 def nested(start, make, steps=30):
+    """A thing in a thing in a thing, so many steps deep."""
     thing = start
     for _ in range(steps):
         thing = make(thing)
@@ -86,7 +87,7 @@ def strange_things():
         {}, {0: 1}, {"a": [1]}, {(0, 1): True}, {"tie": (0, 1)}, {0: {0: {0: None}}},
         nested((), lambda thing: (thing,)), nested([], lambda thing: [thing]),
         nested({}, lambda thing: {"a": thing}), nested("a", lambda thing: ("not", thing)),
-        nested(0, lambda thing: (thing, [thing])[:1]), tuple([None] * 300), [0] * 300,
+        nested(0, lambda thing: [(thing,)], 15), tuple([None] * 300), [0] * 300,
         doubled(()), doubled([], make=lambda thing: [thing, thing]),
         doubled({}, make=lambda thing: {"a": thing, "b": thing}),
     ]
@@ -118,3 +119,103 @@ def kinds_of(thing):
     if type(thing) in (tuple, list):
         return (type(thing).__name__, [kinds_of(part) for part in thing])
     return (type(thing).__name__, thing)
+
+
+def some_sides(frame, web):
+    """Whether some of all lists of 0 and 1 are sides."""
+    rows = itertools.product((0, 1), repeat=frame[0])
+    return any(all(row[a] != row[b] for a, b in web) for row in rows)
+
+
+def tied(web, a, b):
+    return (min(a, b), max(a, b)) in web
+
+
+def has_single(frame, word, web):
+    """Whether a web has the wish of one word, reckoned otherwise than the program does it."""
+    many = frame[0]
+    if word == "odd":
+        return len(web) in (1, 3, 5, 7)
+    if word == "joined":
+        return len(set(roots(frame, web))) == 1
+    if word == "ring":
+        return len(web) != many - len(set(roots(frame, web)))
+    if word == "three":
+        threes = itertools.combinations(range(many), 3)
+        return any(tied(web, a, b) and tied(web, a, c) and tied(web, b, c) for a, b, c in threes)
+    if word == "hub":
+        return any(all(tied(web, a, b) for b in range(many) if b != a) for a in range(many))
+    if word == "lone":
+        return any(not any(tied(web, a, b) for b in range(many)) for a in range(many))
+    if word == "sides":
+        return some_sides(frame, web)
+    raise KeyError(word)
+
+
+def has_by_hand(frame, wish, web):
+    """Whether a web has a wish, reckoned otherwise than the program does it."""
+    if wish[0] == "tie":
+        return wish[1:] in web
+    if wish[0] == "many":
+        return not len(web) < wish[1]
+    if wish[0] == "way":
+        names = roots(frame, web)
+        return names[wish[1]] == names[wish[2]]
+    if wish[0] == "ends":
+        return not sum(wish[1] in tie for tie in web) < wish[2]
+    if wish[0] == "told":
+        return wish[1][all_webs(frame).index(web)]
+    if wish[0] == "not":
+        return has_by_hand(frame, wish[1], web) is False
+    if wish[0] == "missing":
+        return has_by_hand(frame, wish[1], tuple(tie for tie in frame[1] if tie not in web))
+    if len(wish) == 3:
+        so = (has_by_hand(frame, wish[1], web), has_by_hand(frame, wish[2], web))
+        return {"both": sum(so) == 2, "either": sum(so) > 0, "one": sum(so) == 1}[wish[0]]
+    return has_single(frame, wish[0], web)
+
+
+SINGLES = ["odd", "joined", "ring", "three", "hub", "lone", "sides"]
+
+
+def simple_wishes(frame, chance):
+    """Wishes of each kind without wishes in them."""
+    many, ties = frame
+    found = [(word,) for word in SINGLES]
+    found += [("tie", a, b) for a, b in ties]
+    found += [("way", a, b) for a, b in itertools.combinations(range(many), 2)]
+    found += [("many", k) for k in (0, 1, 2, len(ties), len(ties) + 1, 99)]
+    found += [("ends", a, k) for a in range(many) for k in (0, 1, 2, 3, 99)]
+    found += [("told", tuple(chance.random() < 0.5 for _ in range(2 ** len(ties)))) for _ in range(3)]
+    return found
+
+
+def some_wish(frame, chance, steps):
+    """A wish with wishes in it, at most so many steps deep."""
+    word = chance.choice(["not", "missing", "both", "either", "one", "plain"]) if steps else "plain"
+    if word == "plain":
+        return chance.choice(simple_wishes(frame, chance))
+    if word in ("not", "missing"):
+        return (word, some_wish(frame, chance, steps - 1))
+    return (word, some_wish(frame, chance, steps - 1), some_wish(frame, chance, steps - 1))
+
+
+def full_plan(frame, wish, known, order=None):
+    """A plan that asks all ties that are not known, in order."""
+    ties = [tie for tie, truth in zip(frame[1], known) if truth is None] if order is None else order
+    if not ties:
+        web = tuple(tie for tie, truth in zip(frame[1], known) if truth)
+        return ("end", has_by_hand(frame, wish, web))
+    at = frame[1].index(ties[0])
+    there = known[:at] + (True,) + known[at + 1:]
+    gone = known[:at] + (False,) + known[at + 1:]
+    return ("ask", ties[0], full_plan(frame, wish, there, ties[1:]), full_plan(frame, wish, gone, ties[1:]))
+
+
+def all_plans(ties):
+    """All plans that ask only of these ties, none twice on one way."""
+    found = [("end", True), ("end", False)]
+    for tie in ties:
+        inner = all_plans([other for other in ties if other != tie])
+        found += [("ask", tie, there, gone) for there in inner for gone in inner]
+    return found

@@ -25,6 +25,28 @@ FUNCTIONS = {
         "ring_of": ["frame", "web"],
         "sides_of": ["frame", "web"],
     },
+    "wishes": {
+        "is_wish": ["frame", "thing"],
+        "has": ["frame", "wish", "web"],
+    },
+    "tables": {
+        "table_of": ["frame", "wish"],
+        "first_unlike": ["frame", "wish", "other"],
+    },
+    "known": {
+        "is_known": ["frame", "thing"],
+        "fits": ["frame", "known", "web"],
+        "fitting": ["frame", "known"],
+        "settled": ["frame", "wish", "known"],
+    },
+    "plans": {
+        "is_plan": ["frame", "known", "thing"],
+        "followed": ["plan", "web"],
+        "worst": ["plan"],
+        "ends": ["plan"],
+        "fault": ["frame", "wish", "known", "plan"],
+        "lets_by": ["frame", "wish", "known", "thing"],
+    },
 }
 
 

@@ -1,11 +1,10 @@
 """Point 6: pieces, rings, sides."""
 
-import itertools
 import unittest
 
 from allasked.shapes import pieces, ring_of, sides_of
 from tests.samples import ALL_FOUR, ALL_THREE, FRAMES, NO_TIES, ONE_PLACE, RING_OF_SEVEN, ROW_OF_EIGHT
-from tests.samples import STAR_OF_EIGHT, all_webs, at_once, plain, roots
+from tests.samples import STAR_OF_EIGHT, all_webs, at_once, plain, roots, some_sides
 
 TWO_THREES = (6, ((0, 1), (0, 2), (1, 2), (3, 4), (3, 5), (4, 5)))
 RING_OF_SIX = (6, ((0, 1), (0, 5), (1, 2), (2, 3), (3, 4), (4, 5)))
@@ -17,12 +16,6 @@ def is_ring(web, thing):
         return False
     nexts = thing[1:] + thing[:1]
     return all((min(a, b), max(a, b)) in web for a, b in zip(thing, nexts))
-
-
-def some_sides(frame, web):
-    """Whether some of all lists of 0 and 1 are sides."""
-    rows = itertools.product((0, 1), repeat=frame[0])
-    return any(all(row[a] != row[b] for a, b in web) for row in rows)
 
 
 class Pieces(unittest.TestCase):
