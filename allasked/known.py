@@ -12,6 +12,16 @@ def is_known(frame, thing):
     return all(truth is None or isinstance(truth, bool) for truth in thing)
 
 
+def unknown(known):
+    """The numbers of the ties that are not known, in order."""
+    return [at for at, truth in enumerate(known) if truth is None]
+
+
+def with_answer(known, at, truth):
+    """What is known, with this truth for the tie of this number."""
+    return known[:at] + (truth,) + known[at + 1:]
+
+
 def fits(frame, known, web):
     """Tell whether a web fits what is known."""
     return all(truth is None or truth == (tie in web) for tie, truth in zip(frame[1], known))

@@ -1,6 +1,7 @@
 """What the tests share: frames, strange things, reckonings of their own."""
 
 import contextlib
+import functools
 import itertools
 import signal
 
@@ -49,6 +50,25 @@ def all_webs(frame):
 def all_known(frame):
     """All that may be known of a frame."""
     return list(itertools.product((None, True, False), repeat=len(frame[1])))
+
+
+def nothing(frame):
+    """Nothing known of a frame."""
+    return (None,) * len(frame[1])
+
+
+def some_known(frame, chance, count):
+    """So many things known, by chance."""
+    return [tuple(chance.choice((None, True, False)) for _ in frame[1]) for _ in range(count)]
+
+
+def fitting_by_hand(frame, known):
+    """The webs that fit, in order."""
+    found = []
+    for web in all_webs(frame):
+        if all(truth is None or truth is (tie in web) for tie, truth in zip(frame[1], known)):
+            found.append(web)
+    return found
 
 
 def roots(frame, web):
@@ -219,3 +239,93 @@ def all_plans(ties):
         inner = all_plans([other for other in ties if other != tie])
         found += [("ask", tie, there, gone) for there in inner for gone in inner]
     return found
+
+
+def with_tie(frame, known, tie, truth):
+    """What is known, with one tie more."""
+    return tuple(truth if other == tie else former for other, former in zip(frame[1], known))
+
+
+@functools.lru_cache(maxsize=None)
+def turns_by_hand(frame):
+    """All turns of a frame, looked for among all orders."""
+    ties = {frozenset(tie) for tie in frame[1]}
+    found = []
+    for order in itertools.permutations(range(frame[0])):
+        if {frozenset((order[a], order[b])) for a, b in frame[1]} == ties:
+            found.append(order)
+    return found
+
+
+def turned_by_hand(order, web):
+    """The web of the ties that become of these."""
+    ties = [frozenset((order[a], order[b])) for a, b in web]
+    return tuple(sorted(tuple(sorted(tie)) for tie in ties))
+
+
+@functools.lru_cache(maxsize=None)
+def least_of_truths(truths):
+    """The least for this tuple of truths, one for each web; with each ask half of them stay."""
+    if len(set(truths)) == 1:
+        return 0
+    found = []
+    step = 1
+    while step < len(truths):
+        gone = tuple(truth for at, truth in enumerate(truths) if not at & step)
+        there = tuple(truth for at, truth in enumerate(truths) if at & step)
+        found.append(1 + max(least_of_truths(gone), least_of_truths(there)))
+        step *= 2
+    return min(found)
+
+
+def truths_by_hand(frame, wish):
+    """The truths of a wish, for all webs by their numbers."""
+    return tuple(has_by_hand(frame, wish, web) for web in all_webs(frame))
+
+
+def least_by_hand(frame, wish, known):
+    """The least from something known, had of the truths of the webs that fit alone."""
+    return least_of_truths(tuple(has_by_hand(frame, wish, web) for web in fitting_by_hand(frame, known)))
+
+
+def turned_known_by_hand(frame, order, known):
+    """What becomes of what is known, tie by tie."""
+    by_tie = {turned_by_hand(order, (tie,))[0]: truth for tie, truth in zip(frame[1], known)}
+    return tuple(by_tie[tie] for tie in frame[1])
+
+
+def keeps_by_hand(frame, wish, order):
+    """Whether each web and what it becomes have the wish alike."""
+    webs = all_webs(frame)
+    return all(has_by_hand(frame, wish, web) == has_by_hand(frame, wish, turned_by_hand(order, web)) for web in webs)
+
+
+def two_by_hand(frame, wish, known):
+    """A web that fits and has the wish, and one that fits and hasn't."""
+    webs = fitting_by_hand(frame, known)
+    yes = [web for web in webs if has_by_hand(frame, wish, web)]
+    no = [web for web in webs if not has_by_hand(frame, wish, web)]
+    return (yes[0], no[-1])
+
+
+def paper_by_hand(frame, wish, known, orders=()):
+    """A paper that holds out for the least; by orders that keep the wish a row stands for many."""
+    orders = list(orders) or [tuple(range(frame[0]))]
+    goals = [known]
+    rows = []
+    while len(rows) < len(goals):
+        at = goals[len(rows)]
+        rest = least_by_hand(frame, wish, at)
+        moves = []
+        for tie in [tie for tie, truth in zip(frame[1], at) if truth is None and rest >= 2]:
+            answers = [(least_by_hand(frame, wish, with_tie(frame, at, tie, truth)), truth) for truth in (False, True)]
+            truth = max(answers)[1]
+            goal = with_tie(frame, at, tie, truth)
+            found = [(turned_known_by_hand(frame, order, goal), order) for order in orders]
+            known_ones = [pair for pair in found if pair[0] in goals]
+            turned, order = known_ones[0] if known_ones else found[0]
+            if turned not in goals:
+                goals.append(turned)
+            moves.append((truth, goals.index(turned), order))
+        rows.append((at, rest, two_by_hand(frame, wish, at) if rest else (), tuple(moves)))
+    return rows

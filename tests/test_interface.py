@@ -39,6 +39,14 @@ FUNCTIONS = {
         "fitting": ["frame", "known"],
         "settled": ["frame", "wish", "known"],
     },
+    "turns": {
+        "is_turn": ["frame", "thing"],
+        "turned_tie": ["order", "tie"],
+        "turned_web": ["order", "web"],
+        "turned_known": ["frame", "order", "known"],
+        "turned_wish": ["frame", "order", "wish"],
+        "unkept": ["frame", "wish", "order"],
+    },
     "plans": {
         "is_plan": ["frame", "known", "thing"],
         "followed": ["plan", "web"],
@@ -46,6 +54,20 @@ FUNCTIONS = {
         "ends": ["plan"],
         "fault": ["frame", "wish", "known", "plan"],
         "lets_by": ["frame", "wish", "known", "thing"],
+    },
+    "least": {
+        "least": ["frame", "wish", "known"],
+        "best_asks": ["frame", "wish", "known"],
+        "plan_for": ["frame", "wish", "known"],
+    },
+    "papers": {
+        "holds_out": ["frame", "wish", "known", "number", "thing"],
+    },
+    "counts": {
+        "counts": ["frame", "wish"],
+        "signed": ["frame", "wish"],
+        "divided": ["numbers"],
+        "spared": ["frame", "wish"],
     },
 }
 

@@ -7,11 +7,7 @@ import unittest
 from allasked.known import fits, fitting, is_known, settled
 from tests.samples import ALL_FOUR, ALL_THREE, FRAMES, NO_TIES, ONE_PLACE, ONE_TIE, RING_OF_SEVEN
 from tests.samples import all_known, all_webs, at_once, doubled, has_by_hand, kinds_of, nested, plain
-from tests.samples import simple_wishes, some_wish, strange_things
-
-
-def some_known(frame, chance, count):
-    return [tuple(chance.choice((None, True, False)) for _ in frame[1]) for _ in range(count)]
+from tests.samples import simple_wishes, some_known, some_wish, strange_things
 
 
 def fits_by_hand(frame, known, web):

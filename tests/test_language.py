@@ -39,6 +39,10 @@ def own_methods(trees):
     return found
 
 
+def defined_errors(tree):
+    return {node.name for node in tree.body if isinstance(node, ast.ClassDef)}
+
+
 class Language(unittest.TestCase):
     def setUp(self):
         self.trees = {path: ast.parse(path.read_text()) for path in FILES}
@@ -105,7 +109,36 @@ class Language(unittest.TestCase):
             self.assertRegex(node.arg, r"^[A-Za-z][A-Za-z0-9_]*$", path)
             self.assertFalse(hasattr(builtins, node.arg), (path, node.arg))
         for path, node in self.nodes((ast.FunctionDef, ast.ClassDef)):
-            self.assertFalse(hasattr(builtins, node.name), (path, node.name))
+            if node.name != "__init__":
+                self.assertRegex(node.name, r"^[A-Za-z][A-Za-z0-9_]*$", path)
+                self.assertFalse(hasattr(builtins, node.name), (path, node.name))
+
+    def test_no_name_is_a_method_and_an_attribute(self):
+        stored = set()
+        for path, node in self.nodes(ast.Attribute):
+            if not isinstance(node.ctx, ast.Load):
+                stored.add(node.attr)
+        self.assertFalse(stored & own_methods(self.trees.values()))
+        self.assertFalse(stored & METHODS)
+        for path, node in self.nodes(ast.Attribute):
+            if node.attr not in METHODS | own_methods(self.trees.values()):
+                self.assertIn(node.attr, stored, (path, node.lineno))
+
+    def test_errors_are_raised_by_their_names(self):
+        found = defined_errors(self.trees[PACKAGE / "errors.py"])
+        for path, node in self.nodes(ast.Raise):
+            self.assertIsInstance(node.exc, ast.Call, (path, node.lineno))
+            self.assertIn(node.exc.func.id, found, (path, node.lineno))
+
+    def test_each_name_once_in_a_file(self):
+        for path, tree in self.trees.items():
+            found = [node.name for node in tree.body if isinstance(node, (ast.FunctionDef, ast.ClassDef))]
+            for node in tree.body:
+                if isinstance(node, ast.ImportFrom):
+                    found += [alias.name for alias in node.names]
+                if isinstance(node, ast.Assign):
+                    found += [target.id for target in node.targets]
+            self.assertEqual(len(found), len(set(found)), path)
 
     def test_no_name_of_an_import_or_class_again(self):
         for path, tree in self.trees.items():

@@ -5,8 +5,8 @@ import unittest
 
 from allasked.plans import ends, fault, followed, is_plan, lets_by, worst
 from tests.samples import ALL_FOUR, ALL_THREE, FRAMES, NO_TIES, ONE_PLACE, ONE_TIE, RING_OF_SEVEN
-from tests.samples import all_known, all_plans, all_webs, at_once, doubled, full_plan, has_by_hand, nested, plain
-from tests.samples import simple_wishes, some_wish, strange_things
+from tests.samples import all_known, all_plans, all_webs, at_once, doubled, fitting_by_hand, full_plan, has_by_hand
+from tests.samples import nested, nothing, plain, simple_wishes, some_wish, strange_things
 
 YES = ("end", True)
 NO = ("end", False)
@@ -16,19 +16,6 @@ JOINED = ("ask", A, ("ask", B, YES, ("ask", C, YES, NO)), ("ask", B, ("ask", C, 
 BY_UNLIKE_WAYS = ("ask", C, NO, ("ask", A, YES, ("ask", B, NO, YES)))
 WITH_B_GONE = (None, False, None)
 JOINED_WITH_B_GONE = ("ask", A, ("ask", C, YES, NO), NO)
-
-
-def nothing(frame):
-    return (None,) * len(frame[1])
-
-
-def fitting_by_hand(frame, known):
-    """The webs that fit, in order."""
-    found = []
-    for web in all_webs(frame):
-        if all(truth is None or truth is (tie in web) for tie, truth in zip(frame[1], known)):
-            found.append(web)
-    return found
 
 
 def end_by_hand(plan, web):
