@@ -49,10 +49,8 @@ def reckoned(frame, wish, known):
 
 def best_numbers(done, known):
     """The numbers of the ties with which the least is reached, none where it is settled."""
-    truth, asks = done[known]
-    if truth is not None:
-        return []
-    return [at for at in unknown(known) if asks_with(done, known, at) == asks]
+    # Where it is settled the least is 0, and no tie is asked with that.
+    return [at for at in unknown(known) if asks_with(done, known, at) == done[known][1]]
 
 
 def plan_from(frame, done, known):

@@ -8,6 +8,20 @@ PACKAGE = pathlib.Path(__file__).resolve().parent.parent / "allasked"
 
 CLASSES = {
     "errors": ["AskError", "NoFrame", "NoWeb", "NoGrowth", "NoTurn", "NoTie", "NoTruth", "NoBack", "NoText", "NoRow"],
+    "games": ["Game"],
+}
+
+METHODS = {
+    ("games", "Game"): {
+        "__init__": ["self", "frame", "wish"],
+        "tell": ["self", "tie", "truth"],
+        "foe": ["self", "tie"],
+        "back": ["self"],
+        "known": ["self"],
+        "settled": ["self"],
+        "left": ["self"],
+        "best": ["self"],
+    },
 }
 
 FUNCTIONS = {
@@ -69,6 +83,16 @@ FUNCTIONS = {
         "divided": ["numbers"],
         "spared": ["frame", "wish"],
     },
+    "growth": {
+        "ungrown": ["frame", "wish"],
+        "least_yeses": ["frame", "wish"],
+        "least_noes": ["frame", "wish"],
+    },
+    "kinds": {
+        "led": ["frame", "orders"],
+        "kinds": ["frame", "orders"],
+        "all_by_turns": ["frame", "wish", "orders"],
+    },
 }
 
 
@@ -83,6 +107,14 @@ class Interface(unittest.TestCase):
             found = defined(module, ast.ClassDef)
             for name in names:
                 self.assertIn(name, found, module)
+
+    def test_methods(self):
+        for (module, name), methods in METHODS.items():
+            body = defined(module, ast.ClassDef)[name].body
+            found = {node.name: node for node in body if isinstance(node, ast.FunctionDef)}
+            for method, arguments in methods.items():
+                self.assertIn(method, found, name)
+                self.assertEqual([arg.arg for arg in found[method].args.args], arguments, method)
 
     def test_functions(self):
         for module, functions in FUNCTIONS.items():

@@ -303,6 +303,19 @@ class HoldsOut(unittest.TestCase):
             self.no(PAPER + [wrong], PAPER + [wrong, SETTLED], PAPER + [SETTLED, wrong], PAPER[:2] + [wrong])
         self.no([None] + PAPER, PAPER + [(NOTHING, 4, ((A, B), ()), FIRST[3])])
 
+    def test_moves_that_go_to_the_first_row(self):
+        other = SECOND[:3] + (((False, 0, STAY), (False, 0, (1, 0, 2))),)
+        self.yes([THIRD, other], [THIRD, THIRD, other], number=1, known=THIRD[0])
+        self.no([THIRD, other], number=2, known=THIRD[0])
+        self.no([changed([THIRD], 0, 1, 0)[0], other], [(THIRD[0], 0, (), ()), other], number=0, known=THIRD[0])
+        self.no([THIRD, changed([other], 0, 1, 3)[0]], number=1, known=THIRD[0])
+
+    def test_a_truth_is_no_number(self):
+        row = (NOTHING, 1, ((A, B), ()), ())
+        self.yes([row], number=1)
+        self.no([row], number=True)
+        self.no([row], number=False)
+
     def test_other_kinds_in_the_place_of_the_whole(self):
         self.no(tuple(PAPER), {0: FIRST}, {at: row for at, row in enumerate(PAPER)}, (PAPER,), [PAPER], FIRST, None, "", 3)
 
