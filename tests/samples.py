@@ -241,6 +241,40 @@ def all_plans(ties):
     return found
 
 
+def end_by_hand(plan, web):
+    """The truth at the end to which a web leads."""
+    if plan[0] == "end":
+        return plan[1]
+    return end_by_hand(plan[2 if plan[1] in web else 3], web)
+
+
+def fault_by_hand(frame, wish, known, plan):
+    """The first web that fits of which a plan tells the wrong truth, or None."""
+    wrong = []
+    for web in fitting_by_hand(frame, known):
+        if end_by_hand(plan, web) is not has_by_hand(frame, wish, web):
+            wrong.append(web)
+    return wrong[0] if wrong else None
+
+
+def some_plan(ties, chance):
+    """A plan that asks some of these ties, by chance."""
+    if not ties or chance.random() < 0.2:
+        return ("end", chance.random() < 0.5)
+    tie = chance.choice(ties)
+    left = [other for other in ties if other != tie]
+    return ("ask", tie, some_plan(left, chance), some_plan(left, chance))
+
+
+def with_end_changed(plan, web):
+    """The plan with the other truth at the end to which a web leads."""
+    if plan[0] == "end":
+        return ("end", not plan[1])
+    if plan[1] in web:
+        return ("ask", plan[1], with_end_changed(plan[2], web), plan[3])
+    return ("ask", plan[1], plan[2], with_end_changed(plan[3], web))
+
+
 def with_tie(frame, known, tie, truth):
     """What is known, with one tie more."""
     return tuple(truth if other == tie else former for other, former in zip(frame[1], known))

@@ -9,6 +9,7 @@ PACKAGE = pathlib.Path(__file__).resolve().parent.parent / "allasked"
 CLASSES = {
     "errors": ["AskError", "NoFrame", "NoWeb", "NoGrowth", "NoTurn", "NoTie", "NoTruth", "NoBack", "NoText", "NoRow"],
     "games": ["Game"],
+    "desk": ["Desk"],
 }
 
 METHODS = {
@@ -21,6 +22,10 @@ METHODS = {
         "settled": ["self"],
         "left": ["self"],
         "best": ["self"],
+    },
+    ("desk", "Desk"): {
+        "__init__": ["self", "frame_text", "wish_text"],
+        "say": ["self", "row"],
     },
 }
 
@@ -69,6 +74,13 @@ FUNCTIONS = {
         "fault": ["frame", "wish", "known", "plan"],
         "lets_by": ["frame", "wish", "known", "thing"],
     },
+    "changed": {
+        "cut": ["frame", "plan", "known"],
+        "opposite": ["plan"],
+        "missing_plan": ["plan"],
+        "turned_plan": ["order", "plan"],
+        "put_together": ["frame", "word", "one", "other"],
+    },
     "least": {
         "least": ["frame", "wish", "known"],
         "best_asks": ["frame", "wish", "known"],
@@ -92,6 +104,18 @@ FUNCTIONS = {
         "led": ["frame", "orders"],
         "kinds": ["frame", "orders"],
         "all_by_turns": ["frame", "wish", "orders"],
+    },
+    "texts": {
+        "frame_text": ["frame"],
+        "wish_text": ["wish"],
+        "plan_text": ["plan"],
+        "known_text": ["known"],
+    },
+    "reader": {
+        "read_frame": ["text"],
+        "read_wish": ["frame", "text"],
+        "read_plan": ["frame", "text"],
+        "read_known": ["frame", "text"],
     },
 }
 

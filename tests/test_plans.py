@@ -5,8 +5,8 @@ import unittest
 
 from allasked.plans import ends, fault, followed, is_plan, lets_by, worst
 from tests.samples import ALL_FOUR, ALL_THREE, FRAMES, NO_TIES, ONE_PLACE, ONE_TIE, RING_OF_SEVEN
-from tests.samples import all_known, all_plans, all_webs, at_once, doubled, fitting_by_hand, full_plan, has_by_hand
-from tests.samples import nested, nothing, plain, simple_wishes, some_wish, strange_things
+from tests.samples import all_known, all_plans, all_webs, at_once, doubled, fault_by_hand, fitting_by_hand, full_plan
+from tests.samples import nested, nothing, plain, simple_wishes, some_plan, some_wish, strange_things, with_end_changed
 
 YES = ("end", True)
 NO = ("end", False)
@@ -16,38 +16,6 @@ JOINED = ("ask", A, ("ask", B, YES, ("ask", C, YES, NO)), ("ask", B, ("ask", C, 
 BY_UNLIKE_WAYS = ("ask", C, NO, ("ask", A, YES, ("ask", B, NO, YES)))
 WITH_B_GONE = (None, False, None)
 JOINED_WITH_B_GONE = ("ask", A, ("ask", C, YES, NO), NO)
-
-
-def end_by_hand(plan, web):
-    """The truth at the end to which a web leads."""
-    if plan[0] == "end":
-        return plan[1]
-    return end_by_hand(plan[2 if plan[1] in web else 3], web)
-
-
-def fault_by_hand(frame, wish, known, plan):
-    wrong = []
-    for web in fitting_by_hand(frame, known):
-        if end_by_hand(plan, web) is not has_by_hand(frame, wish, web):
-            wrong.append(web)
-    return wrong[0] if wrong else None
-
-
-def some_plan(ties, chance):
-    if not ties or chance.random() < 0.2:
-        return ("end", chance.random() < 0.5)
-    tie = chance.choice(ties)
-    left = [other for other in ties if other != tie]
-    return ("ask", tie, some_plan(left, chance), some_plan(left, chance))
-
-
-def with_end_changed(plan, web):
-    """The plan with the other truth at the end to which a web leads."""
-    if plan[0] == "end":
-        return ("end", not plan[1])
-    if plan[1] in web:
-        return ("ask", plan[1], with_end_changed(plan[2], web), plan[3])
-    return ("ask", plan[1], plan[2], with_end_changed(plan[3], web))
 
 
 class IsPlan(unittest.TestCase):
