@@ -3,7 +3,7 @@
 from allasked.errors import NoBack, NoTie, NoTruth
 from allasked.frames import is_tie
 from allasked.known import with_answer
-from allasked.least import best_numbers, reckoned
+from allasked.least import best_numbers, held_answer, reckoned
 
 
 class Game:
@@ -34,11 +34,8 @@ class Game:
 
     def foe(self, tie):
         """Make a tie known as the foe answers, so that as many asks as can be are left."""
-        at = self.asked_number(tie)
-        there = with_answer(self.known(), at, True)
-        gone = with_answer(self.known(), at, False)
-        truth = self.done[there][1] > self.done[gone][1]
-        self.steps.append(there if truth else gone)
+        truth, known = held_answer(self.done, self.known(), self.asked_number(tie))
+        self.steps.append(known)
         return truth
 
     def back(self):

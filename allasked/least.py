@@ -53,6 +53,15 @@ def best_numbers(done, known):
     return [at for at in unknown(known) if asks_with(done, known, at) == done[known][1]]
 
 
+def held_answer(done, known, at):
+    """The answer for the tie of this number that leaves no fewer asks than the other one, and what is known then."""
+    there = with_answer(known, at, True)
+    gone = with_answer(known, at, False)
+    if done[there][1] > done[gone][1]:
+        return (True, there)
+    return (False, gone)
+
+
 def plan_from(frame, done, known):
     """A plan from what is known that has the least as its worst."""
     truth = done[known][0]

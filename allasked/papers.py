@@ -16,9 +16,9 @@ def is_row(frame, thing):
 class Judge:
     """Looks at the rows of a paper, of each of which the known and the rest are right."""
 
-    def __init__(self, frame, wish, paper):
+    def __init__(self, frame, table, paper):
         self.frame = frame
-        self.table = table_of(frame, wish)
+        self.table = table
         self.paper = paper
         self.kept = {}
 
@@ -71,14 +71,22 @@ class Judge:
         return all(self.move_holds(known, rest, at, move) for at, move in zip(free, moves))
 
 
-def holds_out(frame, wish, known, number, thing):
-    """Tell whether a thing is a paper that holds out for the wish, what is known, and the number."""
+def begins_right(frame, known, number, thing):
+    """Tell whether a thing is a list of rows that begins with what is known and a rest of at least the number."""
     if not is_whole(number) or not isinstance(thing, list) or len(thing) == 0:
         return False
     # A move may go to any row, so all are looked at ahead of the moves.
     if not all(is_row(frame, row) for row in thing):
         return False
-    if thing[0][0] != known or thing[0][1] < number:
-        return False
-    judge = Judge(frame, wish, thing)
-    return all(judge.row_holds(row) for row in thing)
+    return thing[0][0] == known and thing[0][1] >= number
+
+
+def rows_hold(frame, table, paper):
+    """Tell whether all that stands in the rows is right for the wish that has this table."""
+    judge = Judge(frame, table, paper)
+    return all(judge.row_holds(row) for row in paper)
+
+
+def holds_out(frame, wish, known, number, thing):
+    """Tell whether a thing is a paper that holds out for the wish, what is known, and the number."""
+    return begins_right(frame, known, number, thing) and rows_hold(frame, table_of(frame, wish), thing)

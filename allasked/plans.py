@@ -1,8 +1,8 @@
 """Plans of asking: points 12 and 13 of the document."""
 
-from allasked.frames import is_tie
-from allasked.known import fitting
-from allasked.wishes import has
+from allasked.frames import is_tie, webs
+from allasked.known import fits
+from allasked.tables import table_of
 
 
 def asks_only(frame, free, thing):
@@ -53,12 +53,17 @@ def ends(plan):
     return ends(plan[2]) + ends(plan[3])
 
 
-def fault(frame, wish, known, plan):
-    """The first web that fits of which the plan tells the wrong truth, or None."""
-    for web in fitting(frame, known):
-        if followed(plan, web)[0] != has(frame, wish, web):
+def first_fault(frame, table, known, plan):
+    """The first web that fits of which the plan doesn't tell what stands in the table, or None."""
+    for truth, web in zip(table, webs(frame)):
+        if fits(frame, known, web) and followed(plan, web)[0] != truth:
             return web
     return None
+
+
+def fault(frame, wish, known, plan):
+    """The first web that fits of which the plan tells the wrong truth, or None."""
+    return first_fault(frame, table_of(frame, wish), known, plan)
 
 
 def lets_by(frame, wish, known, thing):

@@ -89,16 +89,34 @@ FUNCTIONS = {
     "papers": {
         "holds_out": ["frame", "wish", "known", "number", "thing"],
     },
+    "foes": {
+        "paper_for": ["frame", "wish", "known"],
+        "played": ["frame", "paper", "plan"],
+    },
+    "shown": {
+        "shows": ["frame", "wish", "known", "thing"],
+        "showing_of": ["frame", "wish", "known"],
+    },
     "counts": {
         "counts": ["frame", "wish"],
         "signed": ["frame", "wish"],
         "divided": ["numbers"],
         "spared": ["frame", "wish"],
     },
+    "sums": {
+        "sum_of": ["frame", "wish"],
+        "is_sum": ["frame", "wish", "thing"],
+        "degree": ["frame", "wish"],
+    },
     "growth": {
         "ungrown": ["frame", "wish"],
         "least_yeses": ["frame", "wish"],
         "least_noes": ["frame", "wish"],
+    },
+    "reasons": {
+        "is_reason": ["frame", "wish", "web", "thing"],
+        "reason": ["frame", "wish", "web"],
+        "greatest_reasons": ["frame", "wish"],
     },
     "kinds": {
         "led": ["frame", "orders"],
